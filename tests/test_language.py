@@ -1,0 +1,115 @@
+"""The rules of the language that can be seen from the signs and the parse tree of the package's files."""
+
+import ast
+import pathlib
+import re
+import unittest
+
+PACKAGE = pathlib.Path(__file__).resolve().parent.parent / "twinshelves"
+
+NODES = (
+    ast.Module, ast.FunctionDef, ast.ClassDef, ast.Lambda, ast.arguments, ast.arg, ast.keyword, ast.ImportFrom,
+    ast.alias, ast.Assign, ast.AugAssign, ast.If, ast.While, ast.For, ast.Return, ast.Break, ast.Continue, ast.Pass,
+    ast.Raise, ast.Try, ast.ExceptHandler, ast.Expr, ast.Constant, ast.List, ast.Tuple, ast.Dict, ast.BinOp,
+    ast.BoolOp, ast.UnaryOp, ast.Compare, ast.IfExp, ast.Call, ast.Attribute, ast.Subscript, ast.Slice, ast.Name,
+    ast.ListComp, ast.comprehension, ast.JoinedStr, ast.FormattedValue, ast.expr_context, ast.boolop, ast.operator,
+    ast.unaryop, ast.cmpop,
+)
+OWN_NAMES = set(
+    "len range enumerate zip min max sum abs sorted reversed int str bool list tuple dict set frozenset isinstance ord "
+    "repr any all divmod Exception ValueError TypeError KeyError IndexError LookupError ZeroDivisionError "
+    "ArithmeticError OverflowError RuntimeError NotImplementedError AttributeError StopIteration".split()
+)
+OUT = re.compile(
+    r"\b(type|typing|typing_extensions|enum|Enum|IntEnum|StrEnum|Flag|IntFlag|Generic|Protocol|ABC|ABCMeta|namedtuple"
+    r"|NamedTuple|TypedDict|TYPE_CHECKING|abstractmethod)\b|dataclass|overload|contextmanager"
+)
+OUT_NAMES = set(dir(__builtins__) if not isinstance(__builtins__, dict) else __builtins__)
+
+
+def package_files():
+    return sorted(PACKAGE.glob("*.py"))
+
+
+def trees():
+    return [(path.name, ast.parse(path.read_text())) for path in package_files()]
+
+
+def bound_names(node):
+    if isinstance(node, ast.Name) and isinstance(node.ctx, ast.Store):
+        return [node.id]
+    if isinstance(node, ast.arg):
+        return [node.arg]
+    if isinstance(node, (ast.FunctionDef, ast.ClassDef)):
+        return [node.name]
+    return []
+
+
+class Language(unittest.TestCase):
+    def test_the_folder_holds_plain_files_alone(self):
+        found = [path for path in PACKAGE.iterdir() if path.name != "__pycache__"]
+        self.assertEqual(sorted(found), package_files())
+        for path in found:
+            self.assertRegex(path.name, r"^(__init__|[a-z][a-z0-9_]*)\.py$")
+
+    def test_signs_and_size(self):
+        for path in package_files():
+            rows = path.read_bytes().decode("ascii").split("\n")
+            self.assertLessEqual(len(rows), 401, path)
+            for row in rows:
+                self.assertLessEqual(len(row), 120, (path, row))
+                self.assertTrue(all(" " <= sign <= "~" for sign in row), (path, row))
+                self.assertIsNone(OUT.search(row), (path, row))
+
+    def test_functions_are_short_and_plain(self):
+        for name, tree in trees():
+            for node in ast.walk(tree):
+                if isinstance(node, ast.FunctionDef):
+                    self.assertLess(node.end_lineno - node.lineno, 40, (name, node.name))
+                    self.assertEqual(node.decorator_list, [])
+                if isinstance(node, ast.arguments):
+                    self.assertEqual((node.vararg, node.kwarg, node.kwonlyargs, node.posonlyargs),
+                                     (None, None, [], []), name)
+
+    def test_only_the_listed_forms(self):
+        for name, tree in trees():
+            for node in ast.walk(tree):
+                self.assertIsInstance(node, NODES, name)
+                self.assertNotIsInstance(node, (ast.Div, ast.MatMult), name)
+                if isinstance(node, ast.Assign):
+                    self.assertEqual(len(node.targets), 1, name)
+                if isinstance(node, (ast.For, ast.While)):
+                    self.assertEqual(node.orelse, [], name)
+                if isinstance(node, ast.ListComp):
+                    self.assertEqual(len(node.generators), 1, name)
+                    self.assertLessEqual(len(node.generators[0].ifs), 1, name)
+                if isinstance(node, ast.Constant):
+                    self.assertIsInstance(node.value, (int, str, type(None)), name)
+                    self.assertFalse(isinstance(node.value, str) and "%" in node.value, name)
+
+    def test_imports_are_the_packages_own(self):
+        for name, tree in trees():
+            for node in ast.walk(tree):
+                if isinstance(node, ast.ImportFrom):
+                    self.assertRegex(node.module, r"^twinshelves\.[a-z]+$", name)
+                    self.assertEqual(node.level, 0, name)
+                    defined = ast.parse((PACKAGE / (node.module.split(".")[1] + ".py")).read_text()).body
+                    there = [bound for row in defined for part in ast.walk(row) for bound in bound_names(part)]
+                    for drawn in node.names:
+                        self.assertIn(drawn.name, there, name)
+
+    def test_names(self):
+        for name, tree in trees():
+            bound = [word for node in ast.walk(tree) for word in bound_names(node)]
+            for word in bound:
+                self.assertRegex(word, r"^([A-Za-z][A-Za-z0-9_]*|__(init|eq|repr|str|len)__)$", name)
+                self.assertNotIn(word, OUT_NAMES, name)
+            imported = [drawn.name for node in ast.walk(tree) if isinstance(node, ast.ImportFrom)
+                        for drawn in node.names]
+            for node in ast.walk(tree):
+                if isinstance(node, ast.Name):
+                    self.assertTrue(node.id in bound or node.id in imported or node.id in OWN_NAMES, (name, node.id))
+
+
+if __name__ == "__main__":
+    unittest.main()

@@ -1,0 +1,1 @@
+"""Twinshelves: shelves of files in several houses, led together two ways."""
