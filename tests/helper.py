@@ -29,6 +29,7 @@ STRANGE_THINGS = (
     nested(1, 15, lambda thing: [(thing, None), "a"]),
 )
 
+SIGNS = "".join(chr(code) for code in range(32, 127))
 NAMES = ("a", "b", "ab", "zz", "abcdef", "q")
 TEXTS = ("", "hi", "a=b;c", " ", "~" * 60, "text")
 
@@ -53,3 +54,80 @@ def same_words(mark):
 def files_of_chance(seed, many, houses=6, most=4):
     chance = Random(seed)
     return [file_of_chance(chance, same_words, houses=houses, most=most) for _ in range(many)]
+
+
+def odd_files(seed, many):
+    """Files with counts of one to thirty figures, and with texts of the signs that stand between parts."""
+    chance = Random(seed)
+    files = []
+    for _ in range(many):
+        counts = [chance.randint(1, 10 ** chance.randint(1, 30)) for _ in range(6)]
+        known = tuple(enumerate(counts))[chance.randint(0, 3):chance.randint(4, 6)]
+        marks = sorted({(house, chance.randint(1, last)) for house, last in known for _ in range(3)})
+        names = tuple((mark, chance.choice(NAMES)) for mark in marks if chance.random() < 0.4)
+        texts = tuple((mark, "".join(chance.choices(";:,=.0123456789 ab", k=chance.randint(0, 60))))
+                      for mark in marks if chance.random() < 0.4)
+        files.append((chance.choice(known), chance.choice(NAMES), known, names, texts))
+    return files
+
+
+def everything_of(house):
+    """All that a house tells when it is asked."""
+    return {
+        "number": house.number(), "count": house.count(), "ids": house.ids(), "gone": house.gone(),
+        "files": tuple(house.file(which) for which in sorted(house.ids() + house.gone())),
+        "texts": tuple(house.text_of(which) for which in house.ids()),
+        "quarrels": house.quarrels(), "shown": house.shown(), "heard": house.heard(),
+        "news": house.news_for(()), "stones": house.can_forget(()),
+    }
+
+
+class Story:
+    """Several houses, and beside each one, in sets, the acts that it heard of: what they leave is told from these."""
+
+    def __init__(self, seed, houses, make_house):
+        self.chance = Random(seed)
+        self.houses = [make_house(number) for number in range(houses)]
+        self.acts = {}
+        self.heard = [{} for _ in range(houses)]
+
+    def act(self, number):
+        """One drawn act of this house; what it had heard of the file by then is put down with it."""
+        house, heard = self.houses[number], self.heard[number]
+        mark = (number, house.count() + 1)
+        living = house.ids()
+        # Few files, so that several houses often change the same one.
+        kinds = ("write",) * 4 + ("rename",) * 4 + (("make",) if len(living) < 4 else ("drop",))
+        kind = self.chance.choice(kinds + ("drop",)) if living else "make"
+        which = mark if kind == "make" else self.chance.choice(living)
+        name, text = self.chance.choice(NAMES[:3]), self.chance.choice(TEXTS)
+        things = {"make": (name, text), "write": (which, text), "rename": (which, name), "drop": (which,)}[kind]
+        told = {"make": house.make, "write": house.write, "rename": house.rename, "drop": house.drop}[kind](*things)
+        self.acts[mark] = (which, kind, name, text, frozenset(heard.get(which, ())))
+        heard[which] = heard.get(which, frozenset()) | {mark}
+        return (told, mark if kind == "make" else None)
+
+    def take(self, number, parcel):
+        """The house takes a file; told are its truth, and whether there was an act that is new to the house."""
+        file, marks = parcel
+        before = self.heard[number].get(file[0], frozenset())
+        self.heard[number][file[0]] = before | marks
+        return (self.houses[number].take(file), not marks <= before)
+
+    def parcels_of(self, number):
+        """Each file that the house has now, with the acts that were heard of."""
+        return [(self.houses[number].file(which), marks) for which, marks in self.heard[number].items()]
+
+    def left(self, marks, ones, takers):
+        """The marks of acts of these kinds which no act that had them, and is of the takers' kinds, took away."""
+        taken = {mark for act in marks if self.acts[act][1] in takers for mark in self.acts[act][4]}
+        return sorted(mark for mark in marks if self.acts[mark][1] in ones and mark not in taken)
+
+    def expected(self, number, which):
+        marks = self.heard[number][which]
+        known = {house: max(count for there, count in marks if there == house) for house, _ in marks}
+        names = self.left(marks, ("rename",), ("rename", "drop"))
+        texts = self.left(marks, ("make", "write"), ("write", "drop"))
+        return (which, self.acts[which][2], tuple(sorted(known.items())),
+                tuple((mark, self.acts[mark][2]) for mark in names),
+                tuple((mark, self.acts[mark][3]) for mark in texts))

@@ -24,6 +24,12 @@ OUT = re.compile(
     r"\b(type|typing|typing_extensions|enum|Enum|IntEnum|StrEnum|Flag|IntFlag|Generic|Protocol|ABC|ABCMeta|namedtuple"
     r"|NamedTuple|TypedDict|TYPE_CHECKING|abstractmethod)\b|dataclass|overload|contextmanager"
 )
+OWN_METHODS = set(
+    "append clear copy count endswith extend find get index insert isalnum isalpha isdigit islower isspace isupper items "
+    "join keys ljust lower lstrip partition pop remove replace reverse rfind rjust rpartition rsplit rstrip setdefault "
+    "split splitlines startswith strip update upper values zfill bit_length".split()
+)
+PYTHON_METHODS = set(dir("") + dir(0) + dir([]) + dir(()) + dir({}) + dir(set()) + dir(b""))
 OUT_NAMES = set(dir(__builtins__) if not isinstance(__builtins__, dict) else __builtins__)
 
 
@@ -109,6 +115,32 @@ class Language(unittest.TestCase):
             for node in ast.walk(tree):
                 if isinstance(node, ast.Name):
                     self.assertTrue(node.id in bound or node.id in imported or node.id in OWN_NAMES, (name, node.id))
+
+    def test_methods_and_values_of_objects(self):
+        methods, values = set(), set()
+        for name, tree in trees():
+            for node in ast.walk(tree):
+                if isinstance(node, ast.ClassDef):
+                    methods.update(part.name for part in node.body if isinstance(part, ast.FunctionDef))
+                    self.assertTrue(all(isinstance(part, (ast.FunctionDef, ast.Pass)) for part in node.body), name)
+                if isinstance(node, ast.Attribute):
+                    self.assertTrue(node.attr in OWN_METHODS or node.attr not in PYTHON_METHODS, (name, node.attr))
+                    self.assertNotIn(node.attr, ("register", "mro", "elements", "open", "input", "args"), name)
+                    if isinstance(node.ctx, ast.Store):
+                        values.add(node.attr)
+        self.assertEqual(methods & values, set())
+        self.assertEqual((methods | values) & PYTHON_METHODS - OWN_METHODS, {"__init__"})
+
+    def test_errors_of_pythons_own_are_taken_round_one_call_alone(self):
+        for name, tree in trees():
+            for node in ast.walk(tree):
+                if isinstance(node, ast.Try):
+                    self.assertEqual((len(node.body), node.finalbody), (1, []), name)
+                    for handler in node.handlers:
+                        self.assertNotIn(handler.type.id, ("Exception", "TypeError"), name)
+                        if handler.type.id == "ValueError":
+                            calls = [part.func for part in ast.walk(node.body[0]) if isinstance(part, ast.Call)]
+                            self.assertEqual([call.id for call in calls], ["int"], name)
 
 
 if __name__ == "__main__":

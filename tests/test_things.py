@@ -1,10 +1,9 @@
 import string
 import unittest
 
-from helper import STRANGE_THINGS
+from helper import SIGNS, STRANGE_THINGS
 from twinshelves.things import is_name, is_text
 
-SIGNS = "".join(chr(code) for code in range(32, 127))
 SIGNS_OF_NO_TEXT = ("\n", "\t", "\r", "\0", "\x1f", "\x7f", "\x80", "\xa0", "\xe9", "\u0430", "\u2028", "\U0001f600")
 
 

@@ -1,0 +1,135 @@
+"""Several houses that act, and take one another's files in drawn orders: what of 0.2 speaks of houses."""
+
+import unittest
+from random import Random
+
+from helper import Story, everything_of
+from twinshelves.files import is_file, name_of, quarrels_of
+from twinshelves.houses import House
+from twinshelves.reading import read
+from twinshelves.writing import written
+
+
+def shown_told(files):
+    """The words of 2.3, once more: by how many files with the same name have a lesser id."""
+    standing = [file for file in files if file[4]]
+    told = []
+    for file in standing:
+        ahead = sum(name_of(other) == name_of(file) and other[0] < file[0] for other in standing)
+        told.append((name_of(file) + (f"~{ahead + 1}" if ahead else ""), file[0]))
+    return tuple(sorted(told))
+
+
+class Stories(unittest.TestCase):
+    def assert_as_the_acts_leave_it(self, story, number):
+        house = story.houses[number]
+        files = [story.expected(number, which) for which in sorted(story.heard[number])]
+        standing = [file for file in files if file[4]]
+        self.assertEqual([house.file(file[0]) for file in files], files)
+        self.assertEqual(house.ids(), tuple(file[0] for file in standing))
+        self.assertEqual(house.gone(), tuple(file[0] for file in files if not file[4]))
+        self.assertEqual(house.heard(), tuple((file[0], file[2]) for file in files))
+        self.assertEqual([house.text_of(file[0]) for file in standing], [max(file[4])[1] for file in standing])
+        self.assertEqual(house.quarrels(), tuple((file[0], quarrels_of(file)) for file in files if quarrels_of(file)))
+        self.assertEqual(house.shown(), shown_told(files))
+        self.assertEqual(len({name for name, _ in house.shown()}), len(standing))
+        self.assertEqual(house.count(), sum(mark[0] == number for mark in story.acts))
+
+    def assert_files_and_writings_tell_one_another(self, story, number):
+        for file, _ in story.parcels_of(number):
+            self.assertIs(is_file(file), True)
+            self.assertEqual(read(written(file)), file)
+
+    def go_on(self, story, parcels):
+        """One act, or one file taken: of a house as it is now, or one that was on the way for long."""
+        number = story.chance.randrange(len(story.houses))
+        if story.chance.random() < 0.5 or not parcels:
+            told, expected = story.act(number)
+            self.assertEqual(told, expected)
+            parcels.extend(story.parcels_of(number))
+        else:
+            late = story.chance.random() < 0.4
+            parcel = story.chance.choice(parcels if late else parcels[-20:])
+            told, expected = story.take(number, parcel)
+            self.assertIs(told, expected)
+        return number
+
+    def test_at_each_time_each_house_has_what_the_acts_leave(self):
+        for houses in range(1, 7):
+            for seed in range(8):
+                story = Story(seed, houses, House)
+                parcels = []
+                for _ in range(120):
+                    number = self.go_on(story, parcels)
+                    self.assert_as_the_acts_leave_it(story, number)
+                self.assert_files_and_writings_tell_one_another(story, number)
+
+    def test_the_stories_have_quarrels_gone_files_and_counts_of_two_figures(self):
+        story = Story(0, 3, House)
+        parcels = []
+        kinds, gone = set(), 0
+        for _ in range(600):
+            number = self.go_on(story, parcels)
+            kinds.update(pair[1] for pair in story.houses[number].quarrels())
+            gone += len(story.houses[number].gone())
+        self.assertEqual(kinds, {("name",), ("text",), ("name", "text")})
+        self.assertGreater(gone, 100)
+        self.assertGreater(min(house.count() for house in story.houses), 10)
+
+    def test_houses_that_heard_of_the_same_acts_have_the_same_files(self):
+        for seed in range(20):
+            story = Story(seed, 4, House)
+            parcels = []
+            for _ in range(80):
+                self.go_on(story, parcels)
+            for number in range(4):
+                own = [parcel for other in range(4) for parcel in story.parcels_of(other)]
+                Random(number).shuffle(own)
+                for parcel in own:
+                    story.take(number, parcel)
+            told = [everything_of(house) for house in story.houses]
+            for name in ("ids", "gone", "files", "texts", "quarrels", "shown", "heard", "news"):
+                self.assertEqual([one[name] for one in told], [told[0][name]] * 4, name)
+            for number in range(4):
+                self.assert_as_the_acts_leave_it(story, number)
+
+
+class Forgotten(unittest.TestCase):
+    def meet(self, story, one, other):
+        """Both take what they lack: the one by take, the other by lead_on, as it is drawn."""
+        houses = (story.houses[one], story.houses[other])
+        for here, there in (houses, houses[::-1]):
+            there.told_by(here.number(), here.heard())
+            for file in there.news_for(here.heard()):
+                story.chance.choice((here.take, here.lead_on))(file)
+
+    def test_a_forgotten_file_that_all_know_to_be_gone_does_not_stand_again(self):
+        forgotten_in_all = 0
+        for seed in range(30):
+            story = Story(seed, 3, House)
+            over = set()
+            for time in range(150):
+                number = story.chance.randrange(3)
+                if time < 100:
+                    story.act(number)
+                self.meet(story, number, (number + story.chance.choice((1, 2))) % 3)
+                self.settle(story, number, over)
+                for house in story.houses:
+                    self.assertEqual(over & set(house.ids()), set())
+            forgotten_in_all += len(over)
+        self.assertGreater(forgotten_in_all, 100)
+
+    def settle(self, story, number, over):
+        """The house forgets; over are the ids that went when no house had them but as gone ones."""
+        house = story.houses[number]
+        others = tuple(there for there in range(3) if there != number)
+        gone = set(house.can_forget(others))
+        standing = {which for there in story.houses for which in there.ids()}
+        self.assertEqual(house.forget(others), len(gone))
+        self.assertEqual(gone & standing, set())
+        self.assertEqual(gone & {which for which, _ in house.heard()}, set())
+        over.update(gone)
+
+
+if __name__ == "__main__":
+    unittest.main()
