@@ -1,6 +1,9 @@
-"""What several tests need: things of every kind, and files made by a seeded source of chance."""
+"""What several tests need: things of every kind, drawn files, drawn stories of houses, and what these must tell."""
 
+import unittest
 from random import Random
+
+from twinshelves.files import name_of, quarrels_of
 
 
 def nested(thing, depth, wrap):
@@ -107,14 +110,18 @@ class Story:
         heard[which] = heard.get(which, frozenset()) | {mark}
         return (told, mark if kind == "make" else None)
 
-    def take(self, number, parcel):
-        """The house takes a file; told are its truth, and whether there was an act that is new to the house."""
-        file, marks = parcel
-        before = self.heard[number].get(file[0], frozenset())
-        self.heard[number][file[0]] = before | marks
-        return (self.houses[number].take(file), not marks <= before)
+    def hear(self, number, which, marks):
+        """It is put down that the house heard of these acts on a file; told is whether one of them is new to it."""
+        before = self.heard[number].get(which, frozenset())
+        self.heard[number][which] = before | marks
+        return not marks <= before
 
-    def parcels_of(self, number):
+    def take(self, number, brought):
+        """The house takes a file; told are its truth, and whether there was an act that is new to the house."""
+        file, marks = brought
+        return (self.houses[number].take(file), self.hear(number, file[0], marks))
+
+    def files_of(self, number):
         """Each file that the house has now, with the acts that were heard of."""
         return [(self.houses[number].file(which), marks) for which, marks in self.heard[number].items()]
 
@@ -131,3 +138,47 @@ class Story:
         return (which, self.acts[which][2], tuple(sorted(known.items())),
                 tuple((mark, self.acts[mark][2]) for mark in names),
                 tuple((mark, self.acts[mark][3]) for mark in texts))
+
+
+def drawn_houses(seed, many, make_house, times=60):
+    """Houses that acted, and took some of one another's files."""
+    story = Story(seed, many, make_house)
+    for _ in range(times):
+        number = story.chance.randrange(many)
+        story.act(number)
+        if story.chance.random() < 0.5:
+            for brought in story.files_of(story.chance.randrange(many)):
+                if story.chance.random() < 0.4:
+                    story.take(number, brought)
+    return story.houses
+
+
+def shown_told(files):
+    """The words of 2.3, once more: by how many files with the same name have a lesser id."""
+    standing = [file for file in files if file[4]]
+    told = []
+    for file in standing:
+        ahead = sum(name_of(other) == name_of(file) and other[0] < file[0] for other in standing)
+        told.append((name_of(file) + (f"~{ahead + 1}" if ahead else ""), file[0]))
+    return tuple(sorted(told))
+
+
+class StoryCase(unittest.TestCase):
+    def assert_as_the_acts_leave_it(self, story, number):
+        house = story.houses[number]
+        files = [story.expected(number, which) for which in sorted(story.heard[number])]
+        standing = [file for file in files if file[4]]
+        self.assertEqual([house.file(file[0]) for file in files], files)
+        self.assertEqual(house.ids(), tuple(file[0] for file in standing))
+        self.assertEqual(house.gone(), tuple(file[0] for file in files if not file[4]))
+        self.assertEqual(house.heard(), tuple((file[0], file[2]) for file in files))
+        self.assertEqual([house.text_of(file[0]) for file in standing], [max(file[4])[1] for file in standing])
+        self.assertEqual(house.quarrels(), tuple((file[0], quarrels_of(file)) for file in files if quarrels_of(file)))
+        self.assertEqual(house.shown(), shown_told(files))
+        self.assertEqual(len({name for name, _ in house.shown()}), len(standing))
+        self.assertEqual((house.number(), house.count()), (number, sum(mark[0] == number for mark in story.acts)))
+
+    def assert_all_the_same(self, houses):
+        told = [everything_of(house) for house in houses]
+        for name in ("ids", "gone", "files", "texts", "quarrels", "shown", "heard", "news"):
+            self.assertEqual([one[name] for one in told], [told[0][name]] * len(told), name)

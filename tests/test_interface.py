@@ -1,4 +1,4 @@
-"""The names and arguments of the document's interface, as far as they are built."""
+"""The names and arguments of the document's interface."""
 
 import importlib
 import inspect
@@ -11,6 +11,11 @@ FUNCTIONS = {
     "writing": ("written(file)",),
     "reading": ("read(text)",),
     "houses": ("House(number)",),
+    "meetings": ("Meeting(one, other)", "in_step(one, other)"),
+    "parcels": ("parcel(text, old)", "opened(parcel, old)", "weight(parcel)", "best_old(text, olds)",
+                "is_parcel(thing, text, old)"),
+    "journals": ("row_of(house, which)", "rows_in(journal)", "woken(journal)"),
+    "letters": ("letter(house, heard)", "take_letter(house, text)"),
 }
 HOUSE = (
     "make(self, name, text)", "write(self, which, text)", "rename(self, which, name)", "drop(self, which)",
@@ -18,6 +23,7 @@ HOUSE = (
     "quarrels(self)", "shown(self)", "take(self, file)", "heard(self)", "news_for(self, heard)",
     "told_by(self, number, heard)", "can_forget(self, numbers)", "forget(self, numbers)", "lead_on(self, file)",
 )
+MEETING = ("rows(self)", "step(self)", "rest(self)")
 
 
 class Interface(unittest.TestCase):
@@ -34,6 +40,11 @@ class Interface(unittest.TestCase):
         house = importlib.import_module("twinshelves.houses").House
         for call in HOUSE:
             self.assert_there(house, call)
+
+    def test_methods_of_a_meeting(self):
+        meeting = importlib.import_module("twinshelves.meetings").Meeting
+        for call in MEETING:
+            self.assert_there(meeting, call)
 
 
 if __name__ == "__main__":

@@ -3,54 +3,30 @@
 import unittest
 from random import Random
 
-from helper import Story, everything_of
-from twinshelves.files import is_file, name_of, quarrels_of
+from helper import Story, StoryCase
+from twinshelves.files import is_file
 from twinshelves.houses import House
 from twinshelves.reading import read
 from twinshelves.writing import written
 
 
-def shown_told(files):
-    """The words of 2.3, once more: by how many files with the same name have a lesser id."""
-    standing = [file for file in files if file[4]]
-    told = []
-    for file in standing:
-        ahead = sum(name_of(other) == name_of(file) and other[0] < file[0] for other in standing)
-        told.append((name_of(file) + (f"~{ahead + 1}" if ahead else ""), file[0]))
-    return tuple(sorted(told))
-
-
-class Stories(unittest.TestCase):
-    def assert_as_the_acts_leave_it(self, story, number):
-        house = story.houses[number]
-        files = [story.expected(number, which) for which in sorted(story.heard[number])]
-        standing = [file for file in files if file[4]]
-        self.assertEqual([house.file(file[0]) for file in files], files)
-        self.assertEqual(house.ids(), tuple(file[0] for file in standing))
-        self.assertEqual(house.gone(), tuple(file[0] for file in files if not file[4]))
-        self.assertEqual(house.heard(), tuple((file[0], file[2]) for file in files))
-        self.assertEqual([house.text_of(file[0]) for file in standing], [max(file[4])[1] for file in standing])
-        self.assertEqual(house.quarrels(), tuple((file[0], quarrels_of(file)) for file in files if quarrels_of(file)))
-        self.assertEqual(house.shown(), shown_told(files))
-        self.assertEqual(len({name for name, _ in house.shown()}), len(standing))
-        self.assertEqual(house.count(), sum(mark[0] == number for mark in story.acts))
-
+class Stories(StoryCase):
     def assert_files_and_writings_tell_one_another(self, story, number):
-        for file, _ in story.parcels_of(number):
+        for file, _ in story.files_of(number):
             self.assertIs(is_file(file), True)
             self.assertEqual(read(written(file)), file)
 
-    def go_on(self, story, parcels):
+    def go_on(self, story, on_the_way):
         """One act, or one file taken: of a house as it is now, or one that was on the way for long."""
         number = story.chance.randrange(len(story.houses))
-        if story.chance.random() < 0.5 or not parcels:
+        if story.chance.random() < 0.5 or not on_the_way:
             told, expected = story.act(number)
             self.assertEqual(told, expected)
-            parcels.extend(story.parcels_of(number))
+            on_the_way.extend(story.files_of(number))
         else:
             late = story.chance.random() < 0.4
-            parcel = story.chance.choice(parcels if late else parcels[-20:])
-            told, expected = story.take(number, parcel)
+            brought = story.chance.choice(on_the_way if late else on_the_way[-20:])
+            told, expected = story.take(number, brought)
             self.assertIs(told, expected)
         return number
 
@@ -58,18 +34,18 @@ class Stories(unittest.TestCase):
         for houses in range(1, 7):
             for seed in range(8):
                 story = Story(seed, houses, House)
-                parcels = []
+                on_the_way = []
                 for _ in range(120):
-                    number = self.go_on(story, parcels)
+                    number = self.go_on(story, on_the_way)
                     self.assert_as_the_acts_leave_it(story, number)
                 self.assert_files_and_writings_tell_one_another(story, number)
 
     def test_the_stories_have_quarrels_gone_files_and_counts_of_two_figures(self):
         story = Story(0, 3, House)
-        parcels = []
+        on_the_way = []
         kinds, gone = set(), 0
         for _ in range(600):
-            number = self.go_on(story, parcels)
+            number = self.go_on(story, on_the_way)
             kinds.update(pair[1] for pair in story.houses[number].quarrels())
             gone += len(story.houses[number].gone())
         self.assertEqual(kinds, {("name",), ("text",), ("name", "text")})
@@ -79,17 +55,15 @@ class Stories(unittest.TestCase):
     def test_houses_that_heard_of_the_same_acts_have_the_same_files(self):
         for seed in range(20):
             story = Story(seed, 4, House)
-            parcels = []
+            on_the_way = []
             for _ in range(80):
-                self.go_on(story, parcels)
+                self.go_on(story, on_the_way)
             for number in range(4):
-                own = [parcel for other in range(4) for parcel in story.parcels_of(other)]
-                Random(number).shuffle(own)
-                for parcel in own:
-                    story.take(number, parcel)
-            told = [everything_of(house) for house in story.houses]
-            for name in ("ids", "gone", "files", "texts", "quarrels", "shown", "heard", "news"):
-                self.assertEqual([one[name] for one in told], [told[0][name]] * 4, name)
+                brought = [carried for other in range(4) for carried in story.files_of(other)]
+                Random(number).shuffle(brought)
+                for carried in brought:
+                    story.take(number, carried)
+            self.assert_all_the_same(story.houses)
             for number in range(4):
                 self.assert_as_the_acts_leave_it(story, number)
 

@@ -38,6 +38,9 @@ class House:
     def count(self):
         return self.acts
 
+    def go_on_from(self, acts):
+        self.acts = acts
+
     def next_mark(self):
         self.acts += 1
         return (self.own_number, self.acts)
