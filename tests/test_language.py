@@ -30,6 +30,7 @@ OWN_METHODS = set(
     "split splitlines startswith strip update upper values zfill bit_length".split()
 )
 PYTHON_METHODS = set(dir("") + dir(0) + dir([]) + dir(()) + dir({}) + dir(set()) + dir(b""))
+WALKERS = ("list", "tuple", "dict", "sorted", "sum", "any", "all", "enumerate", "zip")
 OUT_NAMES = set(dir(__builtins__) if not isinstance(__builtins__, dict) else __builtins__)
 
 
@@ -115,6 +116,24 @@ class Language(unittest.TestCase):
             for node in ast.walk(tree):
                 if isinstance(node, ast.Name):
                     self.assertTrue(node.id in bound or node.id in imported or node.id in OWN_NAMES, (name, node.id))
+
+    def test_no_local_is_called_like_a_class_or_an_import(self):
+        for name, tree in trees():
+            tops = [drawn.name for node in ast.walk(tree) if isinstance(node, ast.ImportFrom) for drawn in node.names]
+            tops += [node.name for node in tree.body if isinstance(node, ast.ClassDef)]
+            for node in ast.walk(tree):
+                if isinstance(node, (ast.Name, ast.arg)):
+                    self.assertEqual(set(bound_names(node)) & set(tops), set(), name)
+
+    def test_what_is_walked_is_walked_on_the_spot(self):
+        for name, tree in trees():
+            walked = [node.iter for node in ast.walk(tree) if isinstance(node, (ast.For, ast.comprehension))]
+            walked += [node.args[0] for node in ast.walk(tree) if isinstance(node, ast.Call) and node.args
+                       and isinstance(node.func, ast.Name) and node.func.id in WALKERS]
+            for node in ast.walk(tree):
+                called = getattr(node.func, "id", getattr(node.func, "attr", "")) if isinstance(node, ast.Call) else ""
+                if called in ("zip", "enumerate", "reversed", "range", "items", "keys", "values"):
+                    self.assertIn(node, walked, (name, node.lineno))
 
     def test_methods_and_values_of_objects(self):
         methods, values = set(), set()

@@ -6,6 +6,7 @@ from random import Random
 from helper import Story, StoryCase
 from twinshelves.files import is_file
 from twinshelves.houses import House
+from twinshelves.meetings import Meeting
 from twinshelves.reading import read
 from twinshelves.writing import written
 
@@ -70,11 +71,15 @@ class Stories(StoryCase):
 
 class Forgotten(unittest.TestCase):
     def meet(self, story, one, other):
-        """Both take what they lack: the one by take, the other by lead_on, as it is drawn."""
+        """Both take what they lack: in a meeting that may stop, or by take and lead_on, as it is drawn."""
         houses = (story.houses[one], story.houses[other])
+        meeting = Meeting(*houses)
+        if story.chance.random() < 0.4:
+            for _ in range(story.chance.randint(0, len(meeting.rows()))):
+                meeting.step()
         for here, there in (houses, houses[::-1]):
             there.told_by(here.number(), here.heard())
-            for file in there.news_for(here.heard()):
+            for file in there.news_for(here.heard()) if story.chance.random() < 0.8 else ():
                 story.chance.choice((here.take, here.lead_on))(file)
 
     def test_a_forgotten_file_that_all_know_to_be_gone_does_not_stand_again(self):
